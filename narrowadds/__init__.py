@@ -1,0 +1,1 @@
+"""Narrowadds: programs of additions between registers of unlike sizes."""
