@@ -3,6 +3,7 @@
 from math import gcd
 
 from narrowadds.bounds import MAX_REGISTERS, MAX_SIZE
+from narrowadds.integers import how_often, inverse, power_of
 from narrowadds.kinds import is_an_integer, is_below, is_pair
 
 # Written out up to MAX_PRIME: no greater prime divides a size, so none has to be looked for.
@@ -63,12 +64,20 @@ def primes_of(machine):
 
 def depth(machine, p, i):
     """Return how often the prime p divides the size of the register i."""
-    rest = machine[0][i]
-    times = 0
-    while rest % p == 0:
-        rest //= p
-        times += 1
-    return times
+    return how_often(p, machine[0][i])
+
+
+def whole_power(machine, p, i):
+    """Return p as often as it divides the size of the register i: what of this size belongs to p."""
+    return power_of(p, depth(machine, p, i))
+
+
+def part_of(machine, p, i):
+    """Return the rest of the register i that is 1 modulo what of its size belongs to p, and 0 modulo all else."""
+    size = machine[0][i]
+    power = whole_power(machine, p, i)
+    others = size // power
+    return others * inverse(others, power) % size
 
 
 def step(machine, j, i):

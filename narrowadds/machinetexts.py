@@ -2,6 +2,7 @@
 
 from narrowadds.bounds import MAX_SIZE
 from narrowadds.errors import BadText
+from narrowadds.figures import read_figures
 from narrowadds.machines import machine_error
 
 
@@ -26,7 +27,7 @@ def read_machine(value):
 
 def read_sizes(text):
     """Return the numbers between the blanks of text."""
-    return tuple([read_figures(word) for word in text.split(" ")])
+    return tuple([read_figures(word, MAX_SIZE) for word in text.split(" ")])
 
 
 def read_wires(text):
@@ -37,12 +38,4 @@ def read_wires(text):
 def read_wire(word):
     """Return the two numbers around the first ">" of word."""
     giver, _, taker = word.partition(">")
-    return (read_figures(giver), read_figures(taker))
-
-
-def read_figures(word):
-    """Return the number that the figures of word tell; raise BadText() if it is no row of figures."""
-    # Python refuses to read thousands of figures, and no size and no register has more than MAX_SIZE.
-    if len(word) > len(str(MAX_SIZE)) or not word.isascii() or not word.isdigit():
-        raise BadText()
-    return int(word)
+    return (read_figures(giver, MAX_SIZE), read_figures(taker, MAX_SIZE))

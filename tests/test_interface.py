@@ -1,6 +1,7 @@
 import importlib
 import inspect
 import unittest
+from copy import deepcopy
 
 FUNCTIONS = {
     "machines": {
@@ -8,8 +9,32 @@ FUNCTIONS = {
         "step": ["machine", "j", "i"], "contents_error": ["machine", "value"],
     },
     "machinetexts": {"machine_text": ["machine"], "read_machine": ["value"]},
+    "programs": {
+        "deed_error": ["machine", "value"], "program_error": ["machine", "value"],
+        "done": ["machine", "contents", "deed"], "run": ["machine", "program", "contents"], "backward": ["program"],
+    },
+    "programtexts": {"program_text": ["program"], "read_program": ["machine", "value"]},
+    "tables": {
+        "table_error": ["machine", "value"], "still": ["machine"], "deed_table": ["machine", "deed"],
+        "both": ["machine", "one", "other"], "moved": ["machine", "table", "contents"],
+        "power": ["machine", "table", "k"], "can_be_undone": ["machine", "table"], "undone": ["machine", "table"],
+        "table_of": ["machine", "program"],
+    },
+    "roads": {
+        "rise": ["machine", "p", "j", "i"], "climb": ["machine", "p", "j", "i"], "road": ["machine", "p", "j", "i"],
+        "least_factor": ["machine", "j", "i"],
+    },
 }
 MACHINE = ((8, 4, 8), ((0, 1), (1, 0), (1, 2), (2, 0)))
+# What is handed in by these names, unless a function has its own below.
+WORTHS = {
+    "machine": MACHINE, "p": 2, "j": 1, "i": 2, "contents": (5, 2, 7), "deed": (0, 1, 3), "k": 3,
+    "program": ((0, 1, 3), (1, 0, 2)), "table": ((7, 2, 0), (3, 1, 0), (0, 0, 1)), "value": (7, 3, 0),
+    "one": ((1, 0, 0), (3, 1, 0), (0, 0, 1)), "other": ((1, 2, 0), (0, 1, 0), (0, 0, 1)),
+}
+OWN_WORTHS = {
+    "read_machine": {"value": "8 4 8: 0>1 1>0 1>2 2>0"}, "read_program": {"value": "0>1*3 1>0*-2"},
+}
 
 
 def listed():
@@ -31,12 +56,11 @@ class Interface(unittest.TestCase):
             self.assertEqual(list(inspect.signature(function).parameters), names, function.__name__)
 
     def test_calls_by_place_and_by_name_are_alike(self):
-        worths = {"machine": MACHINE, "p": 2, "j": 1, "i": 2}
         for _, function, names in listed():
-            for value in ((7, 3, 0), "8 4 8: 0>1 1>0 1>2 2>0"):
-                if function.__name__ == "read_machine" and not isinstance(value, str):
-                    continue
-                told = {name: value if name == "value" else worths[name] for name in names}
-                by_place = function(*[told[name] for name in names])
-                self.assertEqual(repr(function(**told)), repr(by_place))
-                self.assertEqual(repr(function(**dict(reversed(list(told.items()))))), repr(by_place))
+            worths = {**WORTHS, **OWN_WORTHS.get(function.__name__, {})}
+            told = {name: worths[name] for name in names}
+            same = deepcopy(told)
+            by_place = function(*[told[name] for name in names])
+            self.assertEqual(repr(function(**told)), repr(by_place))
+            self.assertEqual(repr(function(**dict(reversed(list(told.items()))))), repr(by_place))
+            self.assertEqual(repr(told), repr(same), function.__name__)

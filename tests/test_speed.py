@@ -1,0 +1,45 @@
+"""Every call ends soon, also at the greatest sizes, with six registers and with all wires."""
+
+import unittest
+from random import Random
+from time import perf_counter
+
+from narrowadds.machines import primes_of
+from narrowadds.programs import backward, program_error, run
+from narrowadds.programtexts import program_text, read_program
+from narrowadds.roads import climb, least_factor, road
+from narrowadds.tables import can_be_undone, power, table_error, table_of, undone
+from tests.machinery import contents_of, great_machines, program_of
+
+# Far more than any of them takes, so that a busy machine does not make a test fail.
+SECONDS = 2
+
+
+class Speed(unittest.TestCase):
+    def soon(self, function, *told):
+        start = perf_counter()
+        found = function(*told)
+        self.assertLess(perf_counter() - start, SECONDS, (function.__name__, str(told)[:200]))
+        return found
+
+    def test_programs_and_tables(self):
+        random = Random(1)
+        for machine in great_machines():
+            program = program_of(random, machine, 1000)
+            self.soon(program_error, machine, program)
+            self.soon(read_program, machine, self.soon(program_text, program))
+            self.soon(run, machine, program, contents_of(random, machine))
+            table = self.soon(table_of, machine, program)
+            self.soon(table_error, machine, table)
+            self.soon(power, machine, table, 10 ** 30 - 1)
+            self.assertTrue(self.soon(can_be_undone, machine, table))
+            self.assertEqual(self.soon(undone, machine, table), table_of(machine, backward(program)))
+
+    def test_roads(self):
+        for machine in great_machines():
+            many = len(machine[0])
+            if many > 1:
+                self.soon(least_factor, machine, 0, many - 1)
+                for p in primes_of(machine):
+                    self.soon(climb, machine, p, many - 1, 0)
+                    self.soon(road, machine, p, 0, many - 1)
