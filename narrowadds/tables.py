@@ -77,9 +77,8 @@ def power(machine, table, k):
     while left > 0:
         if left % 2 == 1:
             found = both(machine, found, doubled)
+        doubled = both(machine, doubled, doubled)
         left //= 2
-        if left > 0:
-            doubled = both(machine, doubled, doubled)
     return found
 
 

@@ -1,5 +1,6 @@
 """Machines to test with, and what the document says of them gone through one by one."""
 
+from functools import lru_cache
 from itertools import permutations, product
 from math import prod
 from random import Random
@@ -106,6 +107,11 @@ def contents_behind(machine, contents, deed):
     return contents[:i] + (held,) + contents[i + 1:]
 
 
+def joined_by_words(machine, one, other):
+    """Return whether some program of machine leads one to other, by all contents that deeds reach."""
+    return other in reached_from(machine, one, contents_behind)
+
+
 def table_behind(machine, table, deed):
     """Return what table leads to, and deed behind it, as a table."""
     j, i, c = deed
@@ -118,6 +124,7 @@ def tables_done(machine):
     return reached_from(machine, still_by_words(machine), table_behind)
 
 
+@lru_cache(maxsize=None)
 def roads_by_words(machine, p, j, i):
     """Return all roads for p from j to i, each with its climb."""
     registers = [k for k in range(len(machine[0])) if depth(machine, p, k) > 0]
@@ -129,13 +136,14 @@ def roads_by_words(machine, p, j, i):
                 way = (j,) + row + (i,)
                 if all(wire in machine[1] for wire in zip(way, way[1:])):
                     found.append((way, climb_by_words(machine, p, way)))
-    return found
+    return tuple(found)
 
 
 def climb_by_words(machine, p, way):
     return sum(max(0, depth(machine, p, b) - depth(machine, p, a)) for a, b in zip(way, way[1:]))
 
 
+@lru_cache(maxsize=None)
 def least_factor_by_words(machine, j, i):
     """Return the least factor from j to i, by all roads."""
     found = 1

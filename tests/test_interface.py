@@ -24,6 +24,16 @@ FUNCTIONS = {
         "rise": ["machine", "p", "j", "i"], "climb": ["machine", "p", "j", "i"], "road": ["machine", "p", "j", "i"],
         "least_factor": ["machine", "j", "i"],
     },
+    "wiring": {"does_all": ["machine", "other"], "spare": ["machine"], "lean": ["machine"]},
+    "rooms": {
+        "round_trip": ["machine", "p", "i", "j"], "rooms": ["machine", "p", "t"], "telling": ["machine", "p", "t"],
+        "mark": ["machine", "table", "p", "t", "room"],
+    },
+    "adding": {"adding": ["machine", "j", "i", "c"]},
+    "shares": {
+        "shares": ["machine", "contents"], "gives": ["machine", "contents"], "class_size": ["machine", "contents"],
+        "rested": ["machine", "contents"],
+    },
 }
 MACHINE = ((8, 4, 8), ((0, 1), (1, 0), (1, 2), (2, 0)))
 # What is handed in by these names, unless a function has its own below.
@@ -31,9 +41,11 @@ WORTHS = {
     "machine": MACHINE, "p": 2, "j": 1, "i": 2, "contents": (5, 2, 7), "deed": (0, 1, 3), "k": 3,
     "program": ((0, 1, 3), (1, 0, 2)), "table": ((7, 2, 0), (3, 1, 0), (0, 0, 1)), "value": (7, 3, 0),
     "one": ((1, 0, 0), (3, 1, 0), (0, 0, 1)), "other": ((1, 2, 0), (0, 1, 0), (0, 0, 1)),
+    "t": 1, "room": (0, 1, 2), "c": -6,
 }
 OWN_WORTHS = {
     "read_machine": {"value": "8 4 8: 0>1 1>0 1>2 2>0"}, "read_program": {"value": "0>1*3 1>0*-2"},
+    "does_all": {"other": ((8, 4, 8), ((0, 1), (0, 2)))},
 }
 
 

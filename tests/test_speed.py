@@ -4,11 +4,15 @@ import unittest
 from random import Random
 from time import perf_counter
 
+from narrowadds.adding import adding
 from narrowadds.machines import primes_of
 from narrowadds.programs import backward, program_error, run
 from narrowadds.programtexts import program_text, read_program
 from narrowadds.roads import climb, least_factor, road
+from narrowadds.rooms import mark, rooms, round_trip, telling
+from narrowadds.shares import class_size, gives, rested, shares
 from narrowadds.tables import can_be_undone, power, table_error, table_of, undone
+from narrowadds.wiring import does_all, lean, spare
 from tests.machinery import contents_of, great_machines, program_of
 
 # Far more than any of them takes, so that a busy machine does not make a test fail.
@@ -43,3 +47,35 @@ class Speed(unittest.TestCase):
                 for p in primes_of(machine):
                     self.soon(climb, machine, p, many - 1, 0)
                     self.soon(road, machine, p, 0, many - 1)
+
+    def test_wires(self):
+        for machine in great_machines():
+            self.soon(does_all, machine, machine)
+            self.soon(does_all, machine, self.soon(lean, machine))
+            self.soon(spare, machine)
+
+    def test_rooms_and_marks(self):
+        random = Random(2)
+        for machine in great_machines():
+            table = table_of(machine, program_of(random, machine, 30))
+            for p in primes_of(machine):
+                if len(machine[0]) > 1:
+                    self.soon(round_trip, machine, p, 0, len(machine[0]) - 1)
+                for t in (0, 1, 98, 10 ** 399):
+                    self.soon(rooms, machine, p, t)
+                    for room in self.soon(telling, machine, p, t):
+                        self.soon(mark, machine, table, p, t, room)
+
+    def test_additions(self):
+        for machine in great_machines():
+            many = len(machine[0])
+            if many > 1:
+                least = least_factor(machine, 0, many - 1)
+                self.soon(adding, machine, 0, many - 1, 10 ** 60 // least * least)
+
+    def test_shares_and_classes(self):
+        random = Random(3)
+        for machine in great_machines():
+            contents = contents_of(random, machine)
+            for function in (shares, gives, class_size, rested):
+                self.soon(function, machine, contents)
