@@ -21,8 +21,16 @@ def adding(machine, j, i, c):
             primes_by_road.setdefault(road(machine, p, j, i), []).append(p)
     found = []
     for registers, primes in primes_by_road.items():
-        found.extend(brought(deeds_along(machine, primes, registers, c)))
+        found.extend(added_along(machine, primes, registers, c))
     return tuple(found)
+
+
+def added_along(machine, primes, registers, c):
+    """Return a program that adds c times along the road registers, by which each of primes climbs least.
+
+    For all other primes it changes nothing.
+    """
+    return brought(deeds_along(machine, primes, registers, c))
 
 
 def deeds_along(machine, primes, registers, c):

@@ -69,7 +69,7 @@ def least_factors(machine):
 def factor_along(machine, roads, j, i):
     """Return the least factor from j to i; roads tells the least roads for each prime of machine."""
     found = 1
-    for p in primes_of(machine):
+    for p in roads:
         lost = depth(machine, p, i)
         if (j, i) in roads[p]:
             lost = min(lost, roads[p][j, i][0])

@@ -15,7 +15,7 @@ def determinant(square):
     sign = 1
     last = 1
     for k in range(many):
-        at = row_with_entry(rows, k)
+        at = row_with_entry(rows, k, k)
         if at is None:
             return 0
         if at != k:
@@ -29,9 +29,9 @@ def determinant(square):
     return sign * last
 
 
-def row_with_entry(rows, k):
-    """Return the first row, from k on, that has another entry than 0 in the column k, None if there is none."""
-    for at in range(k, len(rows)):
+def row_with_entry(rows, first, k):
+    """Return the first row, from first on, that has another entry than 0 in the column k, None if there is none."""
+    for at in range(first, len(rows)):
         if rows[at][k] != 0:
             return at
     return None
@@ -42,7 +42,7 @@ def inverse_square(square, p):
     many = len(square)
     rows = [[entry % p for entry in square[i]] + [1 if j == i else 0 for j in range(many)] for i in range(many)]
     for k in range(many):
-        at = row_with_entry(rows, k)
+        at = row_with_entry(rows, k, k)
         rows[k], rows[at] = rows[at], rows[k]
         unit = inverse(rows[k][k], p)
         rows[k] = [unit * entry % p for entry in rows[k]]
@@ -55,3 +55,20 @@ def inverse_square(square, p):
 def row_less(row, times, other, p):
     """Return row less so many times other, modulo p."""
     return [(entry - times * taken) % p for entry, taken in zip(row, other)]
+
+
+def pivots(rows, p):
+    """Return the columns, in order, in which rows brought to steps modulo the prime p begin.
+
+    There are as many as rows just if these are not dependent modulo p.
+    """
+    left = [[entry % p for entry in row] for row in rows]
+    found = []
+    for k in range(len(rows[0]) if rows else 0):
+        at = row_with_entry(left, 0, k)
+        if at is not None:
+            top = left.pop(at)
+            unit = inverse(top[k], p)
+            left = [row_less(row, unit * row[k], top, p) for row in left]
+            found.append(k)
+    return found

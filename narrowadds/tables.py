@@ -11,10 +11,16 @@ def table_error(machine, value):
     many = len(machine[0])
     if not is_row(value, many) or not all([is_row(row, many) for row in value]):
         return "form"
-    for i, row in enumerate(value):
-        for j, entry in enumerate(row):
-            if not is_entry(machine, i, j, entry):
-                return ("entry", i, j)
+    return entry_error(machine, value)
+
+
+def entry_error(machine, rows):
+    """Return what is wrong with the first wrong entry of rows, None if none is; None may stand for a row."""
+    for i, row in enumerate(rows):
+        if row is not None:
+            for j, entry in enumerate(row):
+                if not is_entry(machine, i, j, entry):
+                    return ("entry", i, j)
     return None
 
 

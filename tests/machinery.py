@@ -70,6 +70,12 @@ def all_tables(machine):
     return list(product(*rows))
 
 
+def tables_in_all(machine):
+    """Return how many tables machine has, by their entries one by one."""
+    sizes = machine[0]
+    return prod(size // (1 if j == i else step(machine, j, i)) for i, size in enumerate(sizes) for j in range(len(sizes)))
+
+
 def led_by(machine, table, contents):
     """Return where table leads contents, by the words of the document."""
     return tuple(sum(row[j] * contents[j] for j in range(len(row))) % size for row, size in zip(table, machine[0]))
@@ -119,6 +125,14 @@ def table_behind(machine, table, deed):
     return table[:i] + (row,) + table[i + 1:]
 
 
+def behind_deeds(machine, program):
+    """Return the table that program does, deed by deed."""
+    found = still_by_words(machine)
+    for deed in program:
+        found = table_behind(machine, found, deed)
+    return found
+
+
 def tables_done(machine):
     """Return the set of all tables that programs of machine do; deeds have orders, so going ahead alone is enough."""
     return reached_from(machine, still_by_words(machine), table_behind)
@@ -153,12 +167,54 @@ def least_factor_by_words(machine, j, i):
     return found
 
 
+def trips_by_words(machine, p):
+    """Return the round trips of all pairs that have one, by all roads."""
+    found = {}
+    for i, j in all_wires(len(machine[0])):
+        there = [climbed for _, climbed in roads_by_words(machine, p, i, j)]
+        back = [climbed for _, climbed in roads_by_words(machine, p, j, i)]
+        if there and back:
+            found[i, j] = min(there) + min(back)
+    return found
+
+
+def rooms_by_words(machine, p, trips, t):
+    """Return the rooms of level t: what rows of registers reach, step by step."""
+    found = set()
+    for i in range(len(machine[0])):
+        if depth(machine, p, i) > 0:
+            room = {i}
+            for _ in machine[0]:
+                room |= {b for a, b in trips if a in room and trips[a, b] <= t}
+            found.add(tuple(sorted(room)))
+    return tuple(sorted(found))
+
+
+def table_that_keeps_climbs(random, machine):
+    """Return a table whose entries are multiples of the least factors."""
+    sizes = machine[0]
+    rows = []
+    for i, size in enumerate(sizes):
+        least = [1 if j == i else least_factor_by_words(machine, j, i) for j in range(len(sizes))]
+        rows.append(tuple(random.randrange(size // one) * one for one in least))
+    return tuple(rows)
+
+
+@lru_cache(maxsize=None)
+def orders_and_signs(many):
+    """Return all orders of so many columns, each with 1 or, if pairs change places an odd number of times, -1."""
+    found = []
+    for order in permutations(range(many)):
+        turns = sum(order[a] > order[b] for a in range(many) for b in range(a + 1, many))
+        found.append((order, (-1) ** turns))
+    return found
+
+
 def determinant_by_words(square):
     """Return the sum over all orders of the columns."""
     found = 0
-    for order in permutations(range(len(square))):
-        turns = sum(order[a] > order[b] for a in range(len(order)) for b in range(a + 1, len(order)))
-        found += (-1) ** turns * prod(square[i][order[i]] for i in range(len(order)))
+    for order, sign in orders_and_signs(len(square)):
+        found += sign * prod(row[j] for row, j in zip(square, order))
     return found
 
 
@@ -197,3 +253,58 @@ def great_machines(seed=1):
     ]
     return [(sizes, wires) for sizes in rows
             for wires in ((), around(len(sizes)), some_wires(random, len(sizes)), all_wires(len(sizes)))]
+
+
+def around_and_back(many):
+    """Return the wires that lead from each of so many registers to the next one and back."""
+    return tuple(sorted([(i, i + 1) for i in range(many - 1)] + [(i + 1, i) for i in range(many - 1)]))
+
+
+# One narrow register between, several, and roads of their own for each prime.
+BETWEEN = [
+    NARROW, WAIST, ((16, 2, 16), ((0, 1), (1, 2))), ((64, 8, 2, 8, 64), tuple((i, i + 1) for i in range(4))),
+    ((64, 2, 64, 2, 64), tuple((i, i + 1) for i in range(4))), ((36, 4, 9, 36), ((0, 1), (0, 2), (1, 3), (2, 3))),
+    ((36, 12, 18, 36), ((0, 1), (0, 2), (1, 3), (2, 3))), ((30, 2, 3, 5, 30), tuple((0, i) for i in (1, 2, 3)) +
+                                                         tuple((i, 4) for i in (1, 2, 3))),
+    ((2310 ** 8,) * 6, around(6)), ((2310 ** 8, 2 ** 90, 6 ** 30, 10 ** 20, 14 ** 20, 2310 ** 8), around(6)),
+]
+
+
+def kinds_of_machines():
+    """Return machines of all kinds."""
+    random = Random(1)
+    found = small_machines(count=60) + great_machines() + BETWEEN
+    for _ in range(20):
+        sizes = tuple(random.choice((2, 4, 8, 64, 6, 12, 36, 9, 162, 10 ** 30)) for _ in range(6))
+        found.append((sizes, some_wires(random, 6)))
+    return found
+
+
+def levelled_machines(count=30, seed=1):
+    """Return machines of which rooms of several levels tell: depths near one another, and many wires both ways."""
+    random = Random(seed)
+    found = [((16, 8, 4, 2, 4, 8), around_and_back(6)), ((2 ** 9, 2 ** 6, 2 ** 9, 2 ** 8), around_and_back(4)),
+             ((3 ** 9, 3 ** 5, 3 ** 7, 3 ** 6, 3 ** 9, 3 ** 7), around(6)), ((64, 32, 64, 16), around(4))]
+    while len(found) < count:
+        many = random.randint(2, 6)
+        near = random.randint(2, 30)
+        sizes = tuple(random.choice((2, 3)) ** random.randint(near, near + 4) for _ in range(many))
+        if random.random() < 0.5:
+            sizes = tuple(2 ** random.randint(near, near + 4) * 3 ** random.randint(0, 4) for _ in range(many))
+        wires = random.choice((around, around_and_back, all_wires))(many)
+        found.append((sizes, tuple(wire for wire in wires if random.random() < 0.9)))
+    return found
+
+
+def machines_of_few_tables(most=700, count=60, seed=1):
+    """Return machines of two and of three registers all of whose tables can be gone through."""
+    random = Random(seed)
+    found = [WAIST, RING, ((4, 4), all_wires(2)), ((8, 4), all_wires(2)), ((5, 5), all_wires(2)), ((6, 4), all_wires(2)),
+             ((6, 6), ((0, 1),)), ((9, 3), ((0, 1),)), ((2, 4, 2), around(3)), ((4, 2, 3), all_wires(3)), ((8, 2), ())]
+    found = [machine for machine in found if tables_in_all(machine) <= most]
+    while len(found) < count:
+        many = random.randint(2, 3)
+        sizes = tuple(random.choice((2, 3, 4, 5, 6, 8, 9, 12, 16)) for _ in range(many))
+        if tables_in_all((sizes, ())) <= most:
+            found.append((sizes, some_wires(random, many)))
+    return found

@@ -10,8 +10,8 @@ from narrowadds.roads import least_factor
 from narrowadds.tables import still, table_of
 from tests.examples import check_examples
 from tests.machinery import (
-    MACHINE, MIXED, NARROW, RING, WAIST, all_contents, all_wires, around, great_machines, least_factor_by_words,
-    small_machines, some_wires, still_by_words, tables_done, with_entry,
+    BETWEEN, MACHINE, MIXED, NARROW, RING, WAIST, all_contents, all_wires, around, kinds_of_machines,
+    least_factor_by_words, small_machines, still_by_words, tables_done, with_entry,
 )
 
 EXAMPLES = """
@@ -28,24 +28,6 @@ EXAMPLES = """
     raises Unfit()
 """
 GREATEST = 10 ** 60
-# One narrow register between, several, and roads of their own for each prime.
-BETWEEN = [
-    NARROW, WAIST, ((16, 2, 16), ((0, 1), (1, 2))), ((64, 8, 2, 8, 64), tuple((i, i + 1) for i in range(4))),
-    ((64, 2, 64, 2, 64), tuple((i, i + 1) for i in range(4))), ((36, 4, 9, 36), ((0, 1), (0, 2), (1, 3), (2, 3))),
-    ((36, 12, 18, 36), ((0, 1), (0, 2), (1, 3), (2, 3))), ((30, 2, 3, 5, 30), tuple((0, i) for i in (1, 2, 3)) +
-                                                         tuple((i, 4) for i in (1, 2, 3))),
-    ((2310 ** 8,) * 6, around(6)), ((2310 ** 8, 2 ** 90, 6 ** 30, 10 ** 20, 14 ** 20, 2310 ** 8), around(6)),
-]
-
-
-def machines():
-    """Return machines of all kinds."""
-    random = Random(1)
-    found = small_machines(count=60) + great_machines() + BETWEEN
-    for _ in range(20):
-        sizes = tuple(random.choice((2, 4, 8, 64, 6, 12, 36, 9, 162, 10 ** 30)) for _ in range(6))
-        found.append((sizes, some_wires(random, 6)))
-    return found
 
 
 class Examples(unittest.TestCase):
@@ -69,7 +51,7 @@ class Adding(unittest.TestCase):
 
     def test_each_pair_of_registers(self):
         random = Random(2)
-        for machine in machines():
+        for machine in kinds_of_machines():
             for j, i in all_wires(len(machine[0])):
                 size, least = machine[0][i], least_factor_by_words(machine, j, i)
                 top = GREATEST // least
@@ -89,7 +71,7 @@ class Adding(unittest.TestCase):
                         self.unfit(machine, j, i, c)
 
     def test_great_factors_that_are_no_multiples(self):
-        for machine in machines():
+        for machine in kinds_of_machines():
             for j, i in all_wires(len(machine[0])):
                 least = least_factor_by_words(machine, j, i)
                 top = GREATEST // least * least
@@ -126,7 +108,7 @@ class Adding(unittest.TestCase):
                     self.assertEqual(run(machine, program, contents), tuple(due))
 
     def test_programs_are_short(self):
-        for machine in machines():
+        for machine in kinds_of_machines():
             for j, i in all_wires(len(machine[0])):
                 program = adding(machine, j, i, least_factor(machine, j, i))
                 self.assertLessEqual(len(program), 46 * len(primes_of(machine)))
@@ -139,7 +121,7 @@ class Adding(unittest.TestCase):
         self.assertEqual({(j, i) for j, i, _ in program}, set(machine[1]))
 
     def test_equal_calls_get_equal_results(self):
-        for machine in machines():
+        for machine in kinds_of_machines():
             for j, i in all_wires(len(machine[0])):
                 c = 7 * least_factor(machine, j, i)
                 self.assertEqual(repr(adding(machine, j, i, c)), repr(adding(machine, j, i, c)))

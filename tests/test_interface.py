@@ -30,6 +30,13 @@ FUNCTIONS = {
         "mark": ["machine", "table", "p", "t", "room"],
     },
     "adding": {"adding": ["machine", "j", "i", "c"]},
+    "writing": {"written": ["machine", "table"]},
+    "barring": {"is_done": ["machine", "table"], "paper_holds": ["machine", "table", "value"]},
+    "counts": {"table_count": ["machine"], "undone_count": ["machine"]},
+    "wishes": {
+        "wish_error": ["machine", "value"], "granted": ["machine", "wish"], "wish_holds": ["machine", "wish", "value"],
+        "wish_count": ["machine", "wish"],
+    },
     "shares": {
         "shares": ["machine", "contents"], "gives": ["machine", "contents"], "class_size": ["machine", "contents"],
         "rested": ["machine", "contents"],
@@ -41,11 +48,14 @@ WORTHS = {
     "machine": MACHINE, "p": 2, "j": 1, "i": 2, "contents": (5, 2, 7), "deed": (0, 1, 3), "k": 3,
     "program": ((0, 1, 3), (1, 0, 2)), "table": ((7, 2, 0), (3, 1, 0), (0, 0, 1)), "value": (7, 3, 0),
     "one": ((1, 0, 0), (3, 1, 0), (0, 0, 1)), "other": ((1, 2, 0), (0, 1, 0), (0, 0, 1)),
-    "t": 1, "room": (0, 1, 2), "c": -6,
+    "t": 1, "room": (0, 1, 2), "c": -6, "wish": ((3, 2, 5), None, None),
 }
 OWN_WORTHS = {
     "read_machine": {"value": "8 4 8: 0>1 1>0 1>2 2>0"}, "read_program": {"value": "0>1*3 1>0*-2"},
     "does_all": {"other": ((8, 4, 8), ((0, 1), (0, 2)))},
+    "paper_holds": {"table": ((3, 0, 0), (0, 1, 0), (0, 0, 1)), "value": ("room", 2, 1, (0, 1, 2))},
+    "wish_error": {"value": ((3, 2, 5), None, (2, 1, 1))},
+    "wish_holds": {"wish": ((2, 2, 5), None, None), "value": ("rows", 2, (0,))},
 }
 
 

@@ -3,13 +3,12 @@ from math import prod
 from random import Random
 
 from narrowadds.machines import depth, primes_of
-from narrowadds.roads import least_factor
-from narrowadds.rooms import mark, round_trip, rooms, telling
+from narrowadds.rooms import mark, round_trip, rooms, spans, telling
 from narrowadds.tables import both, still, table_of
 from tests.examples import check_examples
 from tests.machinery import (
-    MACHINE, MIXED, RING, WAIST, all_wires, around, determinant_by_words, great_machines, program_of, roads_by_words,
-    small_machines, some_wires, table_by_words, tables_done,
+    MACHINE, MIXED, RING, WAIST, all_wires, around, determinant_by_words, great_machines, levelled_machines, program_of,
+    rooms_by_words, small_machines, some_wires, table_by_words, table_that_keeps_climbs, tables_done, trips_by_words,
 )
 
 EXAMPLES = """
@@ -45,42 +44,11 @@ def machines():
     return found
 
 
-def trips_by_words(machine, p):
-    """Return the round trips of all pairs that have one, by all roads."""
-    found = {}
-    for i, j in all_wires(len(machine[0])):
-        there = [climbed for _, climbed in roads_by_words(machine, p, i, j)]
-        back = [climbed for _, climbed in roads_by_words(machine, p, j, i)]
-        if there and back:
-            found[i, j] = min(there) + min(back)
-    return found
-
-
-def rooms_by_words(machine, p, trips, t):
-    """Return the rooms of level t: what rows of registers reach, step by step."""
-    found = set()
-    for i in range(len(machine[0])):
-        if depth(machine, p, i) > 0:
-            room = {i}
-            for _ in machine[0]:
-                room |= {b for a, b in trips if a in room and trips[a, b] <= t}
-            found.add(tuple(sorted(room)))
-    return tuple(sorted(found))
-
-
 def levels(machine, p, trips):
     """Return the levels at which rooms or what tells may change, those beside them, and some far beyond."""
     found = {0, 1, 2, 10 ** 6, 10 ** 399} | {trips[pair] + more for pair in trips for more in (-1, 0, 1)}
     found |= {depth(machine, p, i) + more for i in range(len(machine[0])) for more in (-1, 0, 1)}
     return sorted(t for t in found if t >= 0)
-
-
-def table_that_keeps_climbs(random, machine):
-    sizes = machine[0]
-    return tuple(
-        tuple(random.randrange(size) if j == i else random.randrange(size) // least_factor(machine, j, i) *
-              least_factor(machine, j, i) for j in range(len(sizes)))
-        for i, size in enumerate(sizes))
 
 
 def all_telling(machine):
@@ -175,6 +143,18 @@ class Levels(unittest.TestCase):
                         self.assertEqual(len(around_it), 1)
                         if around_it[0] in still_told:
                             self.assertIn(room, told)
+
+
+class Spans(unittest.TestCase):
+    def test_they_are_the_telling_rooms_level_by_level(self):
+        for machine in machines() + levelled_machines(count=60):
+            for p in primes_of(machine):
+                found = spans(machine, p)
+                self.assertEqual([first for _, first, _ in found], sorted(first for _, first, _ in found))
+                deepest = max(depth(machine, p, i) for i in range(len(machine[0])))
+                for t in [t for t in range(deepest + 2) if t < 12 or t % 9 == 0 or t > deepest - 3]:
+                    told = sorted(room for room, first, last in found if first <= t <= last)
+                    self.assertEqual(tuple(told), telling(machine, p, t), (machine, p, t))
 
 
 class Marks(unittest.TestCase):

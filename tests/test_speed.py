@@ -5,6 +5,8 @@ from random import Random
 from time import perf_counter
 
 from narrowadds.adding import adding
+from narrowadds.barring import is_done, paper_holds
+from narrowadds.counts import table_count, undone_count
 from narrowadds.machines import primes_of
 from narrowadds.programs import backward, program_error, run
 from narrowadds.programtexts import program_text, read_program
@@ -13,7 +15,9 @@ from narrowadds.rooms import mark, rooms, round_trip, telling
 from narrowadds.shares import class_size, gives, rested, shares
 from narrowadds.tables import can_be_undone, power, table_error, table_of, undone
 from narrowadds.wiring import does_all, lean, spare
-from tests.machinery import contents_of, great_machines, program_of
+from narrowadds.wishes import granted, wish_count, wish_error, wish_holds
+from narrowadds.writing import written
+from tests.machinery import contents_of, great_machines, levelled_machines, program_of
 
 # Far more than any of them takes, so that a busy machine does not make a test fail.
 SECONDS = 2
@@ -79,3 +83,30 @@ class Speed(unittest.TestCase):
             contents = contents_of(random, machine)
             for function in (shares, gives, class_size, rested):
                 self.soon(function, machine, contents)
+
+    def test_programs_from_tables(self):
+        random = Random(4)
+        for machine in great_machines() + levelled_machines():
+            table = table_of(machine, program_of(random, machine, 1000))
+            self.assertIs(self.soon(is_done, machine, table), True)
+            program = self.soon(written, machine, table)
+            self.assertIsNone(self.soon(program_error, machine, program))
+            self.assertEqual(self.soon(table_of, machine, program), table)
+            for value in (("entry", 0, 1), ("room", 2, 98, (0,)), ("room", 2, 10 ** 399, (0, 1)), ("room",) * 3999):
+                self.assertIs(self.soon(paper_holds, machine, table, value), False)
+
+    def test_counts(self):
+        for machine in great_machines() + levelled_machines():
+            self.soon(table_count, machine)
+            self.soon(undone_count, machine)
+
+    def test_wishes(self):
+        random = Random(5)
+        for machine in great_machines() + levelled_machines():
+            table = table_of(machine, program_of(random, machine, 100))
+            for wish in (table, (None,) * len(table), (None,) + table[1:], table[:1] + (None,) * (len(table) - 1)):
+                self.assertIsNone(self.soon(wish_error, machine, wish))
+                self.soon(granted, machine, wish)
+                self.soon(wish_count, machine, wish)
+                for value in (("rows", 2, (0,)), ("room", 2, 98, (0,)), ("room", 2, 10 ** 399, (0, 1)), ("rows",) * 3999):
+                    self.assertIs(self.soon(wish_holds, machine, wish, value), False)

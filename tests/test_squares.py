@@ -1,9 +1,9 @@
 import unittest
 from copy import deepcopy
-from itertools import product
+from itertools import combinations, product
 from random import Random
 
-from narrowadds.squares import determinant, inverse_square, square_of
+from narrowadds.squares import determinant, inverse_square, pivots, square_of
 from tests.machinery import determinant_by_words
 
 
@@ -46,3 +46,30 @@ class Parts(unittest.TestCase):
         self.assertEqual(square_of(table, (0, 2)), [[1, 3], [7, 9]])
         self.assertEqual(square_of(table, [1]), [[5]])
         self.assertEqual(square_of(table, ()), [])
+
+
+class Pivots(unittest.TestCase):
+    def test_they_are_the_first_columns_that_do_not_hang_on_one_another(self):
+        random = Random(4)
+        for p in (2, 3, 5, 97):
+            for _ in range(60):
+                many, wide = random.randint(0, 5), random.randint(1, 5)
+                rows = [[random.randint(-3, 3) * random.choice((0, 1, 1, p)) for _ in range(wide)] for _ in range(many)]
+                same = deepcopy(rows)
+                found = pivots(rows, p)
+                self.assertEqual(rows, same)
+                due = []
+                for k in range(wide):
+                    if rank_by_words([[row[j] for j in due + [k]] for row in rows], p) > len(due):
+                        due.append(k)
+                self.assertEqual(found, due, (rows, p))
+
+
+def rank_by_words(rows, p):
+    """Return the greatest number of rows and columns with a determinant that is no multiple of p."""
+    for many in range(min(len(rows), len(rows[0]) if rows else 0), 0, -1):
+        for some in combinations(rows, many):
+            for columns in combinations(range(len(rows[0])), many):
+                if determinant_by_words([[row[j] for j in columns] for row in some]) % p != 0:
+                    return many
+    return 0
