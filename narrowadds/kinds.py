@@ -14,3 +14,10 @@ def is_below(value, bound):
 def is_pair(value):
     """Return whether value is a tuple of two items."""
     return isinstance(value, tuple) and len(value) == 2
+
+
+def is_word(value, most):
+    """Return whether value is a string of one small letter to most of them."""
+    if not isinstance(value, str) or not 1 <= len(value) <= most:
+        return False
+    return value.isascii() and value.isalpha() and value.islower()

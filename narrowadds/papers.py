@@ -43,16 +43,11 @@ def entry_holds(machine, rows, i, j):
 
 def room_holds(machine, rows, p, t, room):
     """Return whether ("room", p, t, room), for any p, t and room, is a paper."""
-    if not is_prime_of(machine, p) or not is_an_integer(t) or t < 0:
+    if p not in primes_of(machine) or not is_an_integer(t) or t < 0:
         return False
     if not is_among(telling(machine, p, t), room) or not is_told(rows, room):
         return False
     return mark(machine, rows, p, t, room) != 1
-
-
-def is_prime_of(machine, value):
-    """Return whether value is one of the primes of machine."""
-    return is_an_integer(value) and value in primes_of(machine)
 
 
 def is_among(found, value):

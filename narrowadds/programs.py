@@ -12,11 +12,16 @@ def deed_error(machine, value):
 
 def program_error(machine, value):
     """Return what is wrong with value as a program of machine, None if it is one."""
+    return program_error_from(machine, value, 0)
+
+
+def program_error_from(machine, value, first):
+    """Return what is wrong with value as a program of machine; the deeds ahead of the place first are right ones."""
     if not isinstance(value, tuple) or len(value) > MAX_DEEDS:
         return "form"
     steps = steps_of(machine)
-    for place, deed in enumerate(value):
-        if deed_fault(steps, deed) is not None:
+    for place in range(first, len(value)):
+        if deed_fault(steps, value[place]) is not None:
             return ("deed", place)
     return None
 

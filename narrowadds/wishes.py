@@ -4,7 +4,7 @@ from narrowadds.counts import filled_count
 from narrowadds.errors import Barred
 from narrowadds.integers import inverse, power_of
 from narrowadds.machines import part_of, primes_of
-from narrowadds.papers import entry_holds, entry_paper, is_among, is_prime_of, room_holds, room_paper
+from narrowadds.papers import entry_holds, entry_paper, is_among, room_holds, room_paper
 from narrowadds.rooms import rooms, spans
 from narrowadds.squares import determinant, pivots, square_of
 from narrowadds.tables import entry_error, is_row
@@ -44,8 +44,9 @@ def fill_up(machine, p, rows, free):
     """Put entries into the free rows by which the square of each room of level 0 can be undone modulo p."""
     for room in rooms(machine, p, 0):
         taken = pivots(told_square(rows, room, free), p)
+        own = [i for i in room if i in free]
         left = [j for at, j in enumerate(room) if at not in taken]
-        for i, j in zip([i for i in room if i in free], left):
+        for i, j in zip(own, left):
             rows[i][j] = (rows[i][j] + part_of(machine, p, i)) % machine[0][i]
 
 
@@ -106,7 +107,7 @@ def wish_holds(machine, wish, value):
 
 def rows_holds(machine, wish, p, room):
     """Return whether ("rows", p, room), for any p and room, is a paper of wish."""
-    if not is_prime_of(machine, p) or not is_among(rooms(machine, p, 0), room):
+    if p not in primes_of(machine) or not is_among(rooms(machine, p, 0), room):
         return False
     return is_dependent(wish, p, room)
 

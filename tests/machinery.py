@@ -2,7 +2,7 @@
 
 from functools import lru_cache
 from itertools import permutations, product
-from math import prod
+from math import gcd, prod
 from random import Random
 
 from narrowadds.bounds import MAX_SIZE
@@ -113,9 +113,11 @@ def contents_behind(machine, contents, deed):
     return contents[:i] + (held,) + contents[i + 1:]
 
 
-def joined_by_words(machine, one, other):
-    """Return whether some program of machine leads one to other, by all contents that deeds reach."""
-    return other in reached_from(machine, one, contents_behind)
+def behind_each(machine, program, contents):
+    """Return the contents behind all deeds of program, one by one."""
+    for deed in program:
+        contents = contents_behind(machine, contents, deed)
+    return contents
 
 
 def table_behind(machine, table, deed):
@@ -198,6 +200,53 @@ def table_that_keeps_climbs(random, machine):
         least = [1 if j == i else least_factor_by_words(machine, j, i) for j in range(len(sizes))]
         rows.append(tuple(random.randrange(size // one) * one for one in least))
     return tuple(rows)
+
+
+def classes_of(machine):
+    """Return the classes of all contents of machine, gone through deed by deed, each a sorted list."""
+    left, found = set(all_contents(machine)), []
+    while left:
+        one = reached_from(machine, min(left), contents_behind)
+        found.append(sorted(one))
+        left -= one
+    return found
+
+
+def rows_of_contents(random, machine):
+    """Return contents of machine: noughts, some with great parts in common, some with none."""
+    sizes, found = machine[0], [(0,) * len(machine[0])]
+    for i in range(len(sizes)):
+        found.append(tuple(int(k == i) for k in range(len(sizes))))
+    for _ in range(2):
+        contents = contents_of(random, machine)
+        found.append(contents)
+        for p in primes_of(machine)[:3]:
+            times = p ** random.randint(1, max(depth(machine, p, i) for i in range(len(sizes))))
+            found.append(tuple(rest * times % size for rest, size in zip(contents, sizes)))
+        found.append(tuple(random.choice((0, rest)) for rest in contents))
+    return found
+
+
+def shares_by_words(machine, contents):
+    found = []
+    for i, size in enumerate(machine[0]):
+        share = gcd(size, contents[i])
+        for j in range(len(machine[0])):
+            if j != i:
+                share = gcd(share, least_factor_by_words(machine, j, i) * contents[j])
+        found.append(share)
+    return tuple(found)
+
+
+def gives_by_words(machine, shared):
+    found = []
+    for i, size in enumerate(machine[0]):
+        give = size
+        for j in range(len(machine[0])):
+            if j != i:
+                give = gcd(give, least_factor_by_words(machine, j, i) * shared[j])
+        found.append(give)
+    return tuple(found)
 
 
 @lru_cache(maxsize=None)

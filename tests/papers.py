@@ -63,9 +63,9 @@ def turned_papers(paper):
 
 def turned_parts(part):
     """Return values that are nearly what stands in a paper."""
-    found = [None, True, False, -1, 0, 1, 2, 3, 5, 6, 7, 99, 101, 10 ** 399, -(10 ** 399), "", "0", "2", "entry", "room",
-             "rows", "Room", (), [], {}, (0,), (0, 1), (1, 0), (0, 0), (True,), (0, True), (False, 1), [0], [0, 1],
-             {0: 1}, ((0,),), ((0, 1),), (0, None), ("0",)]
+    found = [None, True, False, -1, 0, 1, 2, 3, 5, 6, 7, 99, 101, 10 ** 399, -(10 ** 399), "", "0", "2", "entry",
+             "room", "rows", "Room", (), [], {}, (0,), (0, 1), (1, 0), (0, 0), (True,), (0, True), (False, 1), [0],
+             [0, 1], {0: 1}, ((0,),), ((0, 1),), (0, None), ("0",)]
     if isinstance(part, int):
         found += [part + 1, part - 1, -part, part + 10 ** 30, str(part), (part,), [part], part * 2, part ** 2]
     if isinstance(part, tuple):

@@ -28,7 +28,8 @@ def drawn_tables(random, machine):
     table = table_of(machine, program_of(random, machine, 30))
     i, j = random.randrange(len(machine[0])), random.randrange(len(machine[0]))
     entry = (table[i][j] * random.choice((0, 2, 3, 5, 1 + 2 ** 10, 1 + 6 ** 8))) % machine[0][i]
-    return [table, with_entry(table, i, j, entry), table_that_keeps_climbs(random, machine), table_by_words(random, machine)]
+    return [table, with_entry(table, i, j, entry), table_that_keeps_climbs(random, machine),
+            table_by_words(random, machine)]
 
 
 class Done(unittest.TestCase):
@@ -117,7 +118,8 @@ class Papers(unittest.TestCase):
             for p in primes_of(machine):
                 for t in range(9):
                     told = telling(machine, p, t)
-                    for room in set(rooms(machine, p, t) + rooms(machine, p, t + 1) + rooms(machine, p, 0) + ((0,), (0, 1))):
+                    near = rooms(machine, p, 0) + rooms(machine, p, t) + rooms(machine, p, t + 1)
+                    for room in set(near + ((0,), (0, 1))):
                         due = room in told and mark(machine, table, p, t, room) != 1
                         self.assertIs(paper_holds(machine, table, ("room", p, t, room)), due)
 
@@ -143,8 +145,10 @@ class Papers(unittest.TestCase):
         for machine, table in ((MACHINE, THREE), (MACHINE, HALF), (((8,), ()), ((0,),)), (MACHINE, still(MACHINE))):
             for value in other_values():
                 self.assertIs(paper_holds(machine, table, value), False)
-                for odd in (("entry", value, 0), ("entry", 2, value), ("room", value, 0, (0,)), ("room", 2, value, (0,)),
-                            ("room", 2, 0, value), ("room", 2, 0, (value,)), ("room", 2, 1, (0, 1, value)), (value, 2, 0),
+                for odd in (("entry", value, 0), ("entry", 2, value), ("room", value, 0, (0,)),
+                            ("room", 2, value, (0,)), ("room", 2, 0, value), ("room", 2, 0, (value,)),
+                            ("room", 2, 1, (0, 1, value)),
+                            (value, 2, 0),
                             (value, 2, 1, (0, 1, 2)), (value,), (value, value, value), (value,) * 4):
                     due = {repr(paper) for paper in table_papers(machine, table)}
                     self.assertIs(paper_holds(machine, table, odd), repr(odd) in due, odd)
@@ -188,8 +192,8 @@ class Calls(unittest.TestCase):
             self.assertEqual(repr(told), repr(same))
 
     def test_equal_calls_get_equal_results(self):
-        for first, second in ((("room", 2, 1, (0, 1, 2)), ("room", 2, True, (0, 1, 2))), (("entry", 2, 0), ("entry", 2, False))):
-            table = THREE if first[0] == "room" else HALF
+        for table, first, second in ((THREE, ("room", 2, 1, (0, 1, 2)), ("room", 2, True, (0, 1, 2))),
+                                     (HALF, ("entry", 2, 0), ("entry", 2, False))):
             for _ in range(2):
                 self.assertIs(paper_holds(MACHINE, table, first), True)
                 self.assertIs(paper_holds(MACHINE, table, second), False)

@@ -3,6 +3,8 @@ import inspect
 import unittest
 from copy import deepcopy
 
+from narrowadds.benches import Bench
+
 FUNCTIONS = {
     "machines": {
         "machine_error": ["value"], "primes_of": ["machine"], "depth": ["machine", "p", "i"],
@@ -37,11 +39,26 @@ FUNCTIONS = {
         "wish_error": ["machine", "value"], "granted": ["machine", "wish"], "wish_holds": ["machine", "wish", "value"],
         "wish_count": ["machine", "wish"],
     },
+    "leading": {
+        "are_joined": ["machine", "one", "other"], "way": ["machine", "one", "other"],
+        "apart_holds": ["machine", "one", "other", "value"],
+    },
+    "logs": {"log_text": ["edits"], "read_log": ["value"], "bench_behind": ["machine", "edits"]},
     "shares": {
         "shares": ["machine", "contents"], "gives": ["machine", "contents"], "class_size": ["machine", "contents"],
         "rested": ["machine", "contents"],
     },
 }
+METHODS = {
+    ("benches", "Bench"): {
+        "__init__": ["machine"], "keep": ["name", "program"], "drop": ["name"], "add": ["name", "deed"], "cut": ["name"],
+        "batch": ["edits"], "table": ["name"], "alike": ["one", "other"], "undo": [], "redo": [], "at": ["version"],
+        "copy": [], "attempt": ["work"],
+    },
+    ("shells", "Shell"): {"__init__": ["machine"], "say": ["line"]},
+}
+PROPERTIES = ["machine", "shelf", "version", "log", "made"]
+OPERATORS = ["__len__", "__contains__", "__getitem__", "__iter__", "__eq__", "__ne__"]
 MACHINE = ((8, 4, 8), ((0, 1), (1, 0), (1, 2), (2, 0)))
 # What is handed in by these names, unless a function has its own below.
 WORTHS = {
@@ -49,11 +66,15 @@ WORTHS = {
     "program": ((0, 1, 3), (1, 0, 2)), "table": ((7, 2, 0), (3, 1, 0), (0, 0, 1)), "value": (7, 3, 0),
     "one": ((1, 0, 0), (3, 1, 0), (0, 0, 1)), "other": ((1, 2, 0), (0, 1, 0), (0, 0, 1)),
     "t": 1, "room": (0, 1, 2), "c": -6, "wish": ((3, 2, 5), None, None),
+    "edits": (("keep", "spin", ((0, 1, 3), (1, 0, 2))), ("cut", "spin")),
 }
 OWN_WORTHS = {
     "read_machine": {"value": "8 4 8: 0>1 1>0 1>2 2>0"}, "read_program": {"value": "0>1*3 1>0*-2"},
     "does_all": {"other": ((8, 4, 8), ((0, 1), (0, 2)))},
     "paper_holds": {"table": ((3, 0, 0), (0, 1, 0), (0, 0, 1)), "value": ("room", 2, 1, (0, 1, 2))},
+    "are_joined": {"one": (1, 0, 0), "other": (3, 0, 0)}, "way": {"one": (1, 0, 0), "other": (3, 0, 0)},
+    "apart_holds": {"one": (1, 0, 0), "other": (0, 0, 1), "value": ("share", 2)},
+    "read_log": {"value": "(cut,spin)\n(batch,())\n"},
     "wish_error": {"value": ((3, 2, 5), None, (2, 1, 1))},
     "wish_holds": {"wish": ((2, 2, 5), None, None), "value": ("rows", 2, (0,))},
 }
@@ -65,6 +86,11 @@ def listed():
         (file, getattr(importlib.import_module("narrowadds." + file), name), names)
         for file, functions in FUNCTIONS.items() for name, names in functions.items()
     ]
+
+
+def shown(value):
+    """Return what tells value from others; a bench shows its log."""
+    return repr(value.log) if isinstance(value, Bench) else repr(value)
 
 
 class Interface(unittest.TestCase):
@@ -82,7 +108,23 @@ class Interface(unittest.TestCase):
             worths = {**WORTHS, **OWN_WORTHS.get(function.__name__, {})}
             told = {name: worths[name] for name in names}
             same = deepcopy(told)
-            by_place = function(*[told[name] for name in names])
-            self.assertEqual(repr(function(**told)), repr(by_place))
-            self.assertEqual(repr(function(**dict(reversed(list(told.items()))))), repr(by_place))
+            by_place = shown(function(*[told[name] for name in names]))
+            self.assertEqual(shown(function(**told)), by_place)
+            self.assertEqual(shown(function(**dict(reversed(list(told.items()))))), by_place)
             self.assertEqual(repr(told), repr(same), function.__name__)
+
+    def test_classes_have_their_methods_in_their_own_bodies(self):
+        for (file, name), methods in METHODS.items():
+            kind = getattr(importlib.import_module("narrowadds." + file), name)
+            self.assertTrue(inspect.isclass(kind))
+            self.assertEqual(kind.__module__, "narrowadds." + file)
+            for method, names in methods.items():
+                self.assertTrue(inspect.isfunction(vars(kind)[method]), method)
+                self.assertEqual(list(inspect.signature(vars(kind)[method]).parameters)[1:], names, method)
+
+    def test_properties_and_operators_of_benches(self):
+        for name in PROPERTIES:
+            self.assertIsInstance(vars(Bench)[name], property)
+            self.assertIsNone(vars(Bench)[name].fset)
+        for name in OPERATORS:
+            self.assertTrue(inspect.isfunction(vars(Bench)[name]), name)

@@ -186,3 +186,51 @@ class Rows(unittest.TestCase):
                 if isinstance(node, ast.ExceptHandler):
                     caught = {part.id for part in ast.walk(node.type) if isinstance(part, ast.Name)} if node.type else {""}
                     self.assertLessEqual(caught, own, name)
+
+
+class Classes(unittest.TestCase):
+    def test_decorators_and_double_underscores(self):
+        allowed = {"__init__", "__len__", "__contains__", "__getitem__", "__iter__", "__eq__", "__ne__"}
+        for name, tree in TREES.items():
+            methods = [node for part in tree.body if isinstance(part, ast.ClassDef) for node in part.body]
+            for node in ast.walk(tree):
+                if isinstance(node, ast.FunctionDef):
+                    told = [decorator.id for decorator in node.decorator_list]
+                    self.assertIn(told, [[], ["property"]] if node in methods else [[]], (name, node.name))
+                    if node.name.startswith("__"):
+                        self.assertIn(node, methods)
+                        self.assertIn(node.name, allowed)
+
+    def test_sizes_are_told_by_len_and_equality_by_the_class_first(self):
+        for tree in TREES.values():
+            for node in ast.walk(tree):
+                if isinstance(node, ast.FunctionDef) and node.name == "__len__":
+                    self.assertRegex(ast.unparse(node.body[-1]), r"\Areturn len\(.*\)\Z")
+                if isinstance(node, ast.FunctionDef) and node.name == "__eq__":
+                    self.assertRegex(ast.unparse(node.body[0]), r"\Aif not isinstance\(other, \w+\):\s+return False\Z")
+
+    def test_no_name_is_a_method_and_an_attribute(self):
+        for tree in TREES.values():
+            for part in tree.body:
+                if isinstance(part, ast.ClassDef):
+                    methods = {node.name for node in part.body if isinstance(node, ast.FunctionDef)}
+                    stored = {node.attr for node in ast.walk(part)
+                              if isinstance(node, ast.Attribute) and isinstance(node.ctx, ast.Store)}
+                    self.assertEqual(methods & stored, set())
+
+    def test_no_generators_and_no_sets_that_are_stored(self):
+        # The classes have __eq__, __len__ and a method add: lists are taken instead.
+        for name, tree in TREES.items():
+            for node in ast.walk(tree):
+                self.assertNotIsInstance(node, (ast.GeneratorExp, ast.Yield, ast.YieldFrom, ast.Set, ast.SetComp), name)
+                if isinstance(node, ast.Assign):
+                    told = node.value.func if isinstance(node.value, ast.Call) else None
+                    self.assertFalse(isinstance(told, ast.Name) and told.id == "set", name)
+
+    def test_no_words_that_a_package_with_items_bars(self):
+        for name, text in FILES.items():
+            for word in ("(type)", "Meta", "metaclass="):
+                self.assertNotIn(word, text, name)
+            for node in ast.walk(TREES[name]):
+                if isinstance(node, ast.Attribute):
+                    self.assertNotEqual(node.attr, "keys", name)

@@ -9,8 +9,8 @@ from narrowadds.shares import class_size, gives, rested, shares
 from narrowadds.wiring import lean
 from tests.examples import check_examples
 from tests.machinery import (
-    MACHINE, MIXED, RING, WAIST, all_contents, all_wires, around, contents_behind, contents_of, great_machines,
-    least_factor_by_words, program_of, reached_from, small_machines, some_wires,
+    MACHINE, MIXED, RING, WAIST, all_contents, all_wires, around, classes_of, contents_of, gives_by_words,
+    great_machines, least_factor_by_words, program_of, rows_of_contents, shares_by_words, small_machines, some_wires,
 )
 
 EXAMPLES = """
@@ -21,7 +21,7 @@ EXAMPLES = """
     >>> low = ((9, 3), ((0, 1),))
     >>> class_size(machine, (1, 0, 0)), class_size(machine, (4, 2, 0)), class_size(machine, (0, 0, 0)), class_size(low, (4, 0)), class_size(low, (3, 1))
     (64, 4, 1, 3, 1)
-    >>> from tests.machinery import joined_by_words as are_joined
+    >>> from narrowadds.leading import are_joined
     >>> rested(machine, (1, 0, 0)) == rested(machine, (7, 3, 6)), rested(machine, (1, 0, 0)) == rested(machine, (0, 0, 1)), are_joined(machine, (4, 2, 0), rested(machine, (4, 2, 0))), rested(machine, (0, 0, 0))
     (True, False, True, (0, 0, 0))
 """
@@ -35,53 +35,6 @@ def machines():
         sizes = tuple(random.choice((2, 4, 8, 64, 6, 12, 36, 9, 162, 10 ** 30)) for _ in range(6))
         found.append((sizes, some_wires(random, 6)))
     return found
-
-
-def classes_of(machine):
-    """Return the classes of all contents of machine, gone through deed by deed, each a sorted list."""
-    left, found = set(all_contents(machine)), []
-    while left:
-        one = reached_from(machine, min(left), contents_behind)
-        found.append(sorted(one))
-        left -= one
-    return found
-
-
-def rows_of_contents(random, machine):
-    """Return contents of machine: noughts, some with great parts in common, some with none."""
-    sizes, found = machine[0], [(0,) * len(machine[0])]
-    for i in range(len(sizes)):
-        found.append(tuple(int(k == i) for k in range(len(sizes))))
-    for _ in range(2):
-        contents = contents_of(random, machine)
-        found.append(contents)
-        for p in primes_of(machine)[:3]:
-            times = p ** random.randint(1, max(depth(machine, p, i) for i in range(len(sizes))))
-            found.append(tuple(rest * times % size for rest, size in zip(contents, sizes)))
-        found.append(tuple(random.choice((0, rest)) for rest in contents))
-    return found
-
-
-def shares_by_words(machine, contents):
-    found = []
-    for i, size in enumerate(machine[0]):
-        share = gcd(size, contents[i])
-        for j in range(len(machine[0])):
-            if j != i:
-                share = gcd(share, least_factor_by_words(machine, j, i) * contents[j])
-        found.append(share)
-    return tuple(found)
-
-
-def gives_by_words(machine, shared):
-    found = []
-    for i, size in enumerate(machine[0]):
-        give = size
-        for j in range(len(machine[0])):
-            if j != i:
-                give = gcd(give, least_factor_by_words(machine, j, i) * shared[j])
-        found.append(give)
-    return tuple(found)
 
 
 def times_in(p, number):

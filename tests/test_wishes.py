@@ -106,8 +106,8 @@ class Errors(unittest.TestCase):
             for i, size in enumerate(machine[0]):
                 for j in range(len(machine[0])):
                     least = 1 if i == j else step(machine, j, i)
-                    for entry in (size, -1, -size, 2 * size, least, least + 1, size - 1, size - least, True, False, None,
-                                  "0", (0,), [0], 10 ** 399, 0, 1):
+                    for entry in (size, -1, -size, 2 * size, least, least + 1, size - 1, size - least, True, False,
+                                  None, "0", (0,), [0], 10 ** 399, 0, 1):
                         value = with_entry(table, i, j, entry)
                         self.assertEqual(wish_error(machine, value), table_error(machine, value))
                         wish = with_rows(value, [i])
@@ -115,8 +115,8 @@ class Errors(unittest.TestCase):
 
     def test_one_item_turned(self):
         for i in range(3):
-            for odd in ((), [], {}, 0, 1, True, False, "", "row", "None", (1, 2), (1, 2, 3, 4), [1, 0, 0], {0: 1}, ((1, 0, 0),),
-                        (None,), {0: 1, 1: 0, 2: 0}, "100", [None]):
+            for odd in ((), [], {}, 0, 1, True, False, "", "row", "None", (1, 2), (1, 2, 3, 4), [1, 0, 0], {0: 1},
+                        ((1, 0, 0),), (None,), {0: 1, 1: 0, 2: 0}, "100", [None]):
                 value = WISH[:i] + (odd,) + WISH[i + 1:]
                 self.assertEqual(wish_error(MACHINE, value), ("row", i), value)
 
@@ -199,15 +199,17 @@ class Granted(unittest.TestCase):
             machine = ((p ** e,) * 3, around(3))
             for rows, grants in (
                 (((p % p ** e, 0, 0), None, None), False), (((1, 1, 0), (p + 1, 1, 0), None), False),
-                (((1, 1, 0), (1, 2, 0), None), True), (((1, 0, 1), None, (0, 1, 0)), True), ((None, None, (0, 0, 0)), False),
-                (((1, 0, 0), (0, 1, 0), None), True), (((1, 2, 3), None, (2, 4, 6)), False),
+                (((1, 1, 0), (1, 2, 0), None), True), (((1, 0, 1), None, (0, 1, 0)), True),
+                ((None, None, (0, 0, 0)), False), (((1, 0, 0), (0, 1, 0), None), True), (((1, 2, 3), None, (2, 4, 6)),
+                                                                                         False),
             ):
                 wish = tuple(None if row is None else tuple(entry % p ** e for entry in row) for row in rows)
                 self.assertEqual(self.check(machine, wish) is not None, grants, (p, e, rows))
 
     def test_the_same_rows_for_one_prime_and_not_for_another(self):
         machine = ((36, 36), all_wires(2))
-        for row, grants in (((2, 3), True), ((2, 4), False), ((3, 6), False), ((6, 1), True), ((0, 35), True), ((30, 18), False)):
+        for row, grants in (((2, 3), True), ((2, 4), False), ((3, 6), False), ((6, 1), True), ((0, 35), True),
+                            ((30, 18), False)):
             self.assertEqual(self.check(machine, (row, None)) is not None, grants)
             self.assertEqual(self.check(machine, (None, row)) is not None, grants)
 
@@ -272,9 +274,10 @@ class Holding(unittest.TestCase):
         machine, wish = ((9, 9), ()), ((3, 0), (0, 3))
         for right in (("rows", 3, (0,)), ("rows", 3, (1,)), ("room", 3, 0, (1,)), ("room", 3, 1, (0,))):
             self.assertIs(wish_holds(machine, wish, right), True)
-        for wrong in (("rows", 3, (False,)), ("rows", 3, (True,)), ("rows", 3, [0]), ["rows", 3, (0,)], ("rows", True, (0,)),
-                      ("rows", 3, 0), ("rows", 3, 0, (0,)), ("room", 3, (0,)), ("room", 3, True, (0,)), ("room", 3, 0, (True,)),
-                      ("rows", 9, (0,)), ("rows", (3,), (0,)), ("rows", 3, ((0,),)), ("rows", "3", (0,)), ("rows", None, (0,))):
+        for wrong in (("rows", 3, (False,)), ("rows", 3, (True,)), ("rows", 3, [0]), ["rows", 3, (0,)],
+                      ("rows", True, (0,)), ("rows", 3, 0), ("rows", 3, 0, (0,)), ("room", 3, (0,)),
+                      ("room", 3, True, (0,)), ("room", 3, 0, (True,)), ("rows", 9, (0,)), ("rows", (3,), (0,)),
+                      ("rows", 3, ((0,),)), ("rows", "3", (0,)), ("rows", None, (0,))):
             self.assertIs(wish_holds(machine, wish, wrong), False, wrong)
 
     def test_values_of_all_other_kinds(self):
@@ -283,8 +286,10 @@ class Holding(unittest.TestCase):
             for value in other_values():
                 self.assertIs(wish_holds(machine, wish, value), False)
                 for odd in (("entry", value, 0), ("entry", 2, value), ("rows", value, (0,)), ("rows", 2, value),
-                            ("rows", 2, (value,)), ("room", value, 0, (0,)), ("room", 2, value, (0,)), ("room", 2, 0, value),
-                            ("room", 2, 0, (value,)), (value, 2, 0), (value, 2, (0,)), (value, 2, 0, (0,)), (value,) * 3):
+                            ("rows", 2, (value,)), ("room", value, 0, (0,)), ("room", 2, value, (0,)),
+                            ("room", 2, 0, value),
+                            ("room", 2, 0, (value,)), (value, 2, 0), (value, 2, (0,)), (value, 2, 0, (0,)),
+                            (value,) * 3):
                     self.assertIs(wish_holds(machine, wish, odd), repr(odd) in due, odd)
 
     def test_papers_of_tables_are_papers_of_wishes(self):
@@ -299,7 +304,8 @@ class Holding(unittest.TestCase):
 
 class Counts(unittest.TestCase):
     def test_against_all_tables_of_small_machines(self):
-        for machine in machines_of_few_tables(most=300, count=50, seed=7) + [((4, 4), all_wires(2)), ((8, 4), all_wires(2))]:
+        for machine in machines_of_few_tables(most=300, count=50, seed=7) + [((4, 4), all_wires(2)),
+                                                                             ((8, 4), all_wires(2))]:
             tables, many = tables_done(machine), len(machine[0])
             for told in product((False, True), repeat=many):
                 due = Counter(tuple(row if one else None for row, one in zip(table, told)) for table in tables)
